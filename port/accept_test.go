@@ -85,7 +85,7 @@ func isRight(t api.Trade, q api.Command, want, r api.Reply) bool {
 func TestTwistedReplies(t *testing.T) {
 	d := &dice{}
 	met := map[string]int{}
-	for range 250 {
+	for range 150 {
 		s := d.flows()
 		l := d.entries(s, d.of(3, 6, 12))
 		q := d.question(s, 9)
@@ -107,7 +107,7 @@ func TestTwistedReplies(t *testing.T) {
 		}
 	}
 	enough(t, met, 5, "right")
-	enough(t, met, 5000, "wrong")
+	enough(t, met, 3000, "wrong")
 }
 
 // P10.11: an empty list is the same whether it is nil or not.
@@ -194,7 +194,7 @@ func TestOtherLimits(t *testing.T) {
 		want := port.Answer(s, l, q)
 		good(t, want.Err)
 		for seven := 30; seven <= 50; seven++ {
-			for eight := 35; eight <= 60; eight++ {
+			for eight := 35; eight <= 60; eight += 5 {
 				start := 20 - seven%2*10
 				c := api.Course{Start: []int{100, 0, start}, End: []int{100 - seven, seven - eight, start + eight}, Mass: []int{seven, eight}}
 				for _, cut := range allCuts() {
@@ -224,14 +224,14 @@ func TestOtherLimits(t *testing.T) {
 		other := askHolds(2, 0, n%3+1)
 		equal(t, port.CheckAnswer(s, l, other, want), api.ErrProof)
 	}
-	enough(t, met, 5, "least", "greatest")
+	enough(t, met, 3, "least", "greatest")
 }
 
 // P10.11: the index of the first reply that is not right, whatever comes behind it; questions to wharves that are none, and other commands, have the replies of Do.
 func TestWrongReplies(t *testing.T) {
 	d := &dice{}
 	wrong := 0
-	for range 25 {
+	for range 15 {
 		s := d.script(d.of(10, 20, 40))
 		l := ran(t, s)
 		for i := range l {
@@ -257,7 +257,7 @@ func TestWrongReplies(t *testing.T) {
 			}
 		}
 	}
-	equal(t, wrong > 1000, true, wrong)
+	equal(t, wrong > 600, true, wrong)
 }
 
 // P10.11: each question is checked for what its wharf knows when it is asked, with other proofs too.

@@ -92,7 +92,7 @@ func Accept(s api.Script, l []api.Reply) (api.Errno, int) {
 // accepts reports whether a reply to a command is right; commands that are no questions are done.
 func (p *Port) accepts(c api.Command, r api.Reply) bool {
 	if isQuestion(c.Kind) && p.hasAll(named(c)) {
-		return CheckAnswer(p.setting, p.entries(c), c, r) == api.OK
+		return CheckAnswer(p.setting, p.Known(c.A), c, r) == api.OK
 	}
 	return same(p.Do(c), r)
 }

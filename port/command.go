@@ -59,7 +59,7 @@ func commandBlanks(c *api.Command) []blank {
 // isCommand reports whether a command is formed.
 func isCommand(c api.Command) bool {
 	numbers := commandBlanks(&c)
-	return len(numbers) > 0 && areFilled(numbers) && isOfItsKind(c) && isNothing(rest(c))
+	return len(numbers) > 0 && areFilled(numbers) && isOfItsKind(c) && isBare(rest(c))
 }
 
 // isOfItsKind reports whether what a command has beside single numbers is as its kind needs it.
@@ -99,13 +99,12 @@ func rest(c api.Command) api.Command {
 	case api.CoDue:
 		c.Cargo = nil
 	}
-	c.Kind = 0
 	return c
 }
 
-// isNothing reports whether a command has no field that is not zero.
-func isNothing(c api.Command) bool {
-	numbers := []int{c.Kind, c.A, c.B, c.N, c.Page, c.Lines, c.Bytes, c.Known, c.Ship, c.Load, c.Depth, c.Keel, c.Minutes.Lo, c.Minutes.Hi}
+// isBare reports whether a command has no field that is not zero, but for its kind.
+func isBare(c api.Command) bool {
+	numbers := []int{c.A, c.B, c.N, c.Page, c.Lines, c.Bytes, c.Known, c.Ship, c.Load, c.Depth, c.Keel, c.Minutes.Lo, c.Minutes.Hi}
 	isAny := slices.ContainsFunc(numbers, func(n int) bool { return n != 0 })
 	return !isAny && c.Entry == api.Entry{} && len(c.Cargo) == 0
 }

@@ -61,15 +61,7 @@ func (p *Port) Do(c api.Command) api.Reply {
 	if act, is := acts[c.Kind]; is {
 		return act(c)
 	}
-	return Answer(p.setting, p.entries(c), c)
-}
-
-// entries returns those for which a question is asked.
-func (p *Port) entries(c api.Command) []api.Entered {
-	if c.Kind == api.CoDue {
-		return nil
-	}
-	return p.Known(c.A)
+	return Answer(p.setting, p.Known(c.A), c) // CoDue names no wharf, so that nothing is known
 }
 
 func (p *Port) doTick(c api.Command) api.Reply {

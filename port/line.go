@@ -67,17 +67,17 @@ func (r *reader) fill(l []blank) {
 	}
 }
 
-// read returns the thing that is read from a line. A thing has one line only: the line is right if the thing is written just so, which text tells.
+// read returns the thing that is read from a line. A thing has one line only, which text tells: what was read is right if it is written just so.
 func read[T any](s string, from func(*reader) T, text func(T) (string, api.Errno)) (x T, e api.Errno) {
+	var nothing T
 	defer func() {
 		if recover() != nil {
-			var nothing T
 			x, e = nothing, api.ErrForm
 		}
 	}()
 	x = from(&reader{rest: s})
 	if again, wrong := text(x); wrong != api.OK || again != s {
-		panic(api.ErrForm)
+		return nothing, api.ErrForm
 	}
 	return x, api.OK
 }
